@@ -2,15 +2,13 @@
 package proc
 
 import (
-	"maps"
-	"slices"
-
 	"heddle/api"
+	"heddle/machine"
 )
 
 // Check looks whether a code is a procedure (P3).
 func Check(code string) api.Errno {
-	if _, ok := decode(code); !ok {
+	if !machine.IsProcedure(code) {
 		return api.ErrCode
 	}
 	return api.OK
@@ -18,48 +16,26 @@ func Check(code string) api.Errno {
 
 // Run runs a procedure alone, on what stands under keys (P4).
 func Run(code string, pairs []api.Pair) (api.Outcome, []api.Pair, api.Errno) {
-	stands, ok := byKey(pairs)
+	snapshot, ok := byKey(pairs)
 	if !ok {
 		return api.Outcome{}, nil, api.ErrArg
 	}
-	list, ok := decode(code)
+	run, ok := machine.Execute(code, snapshot)
 	if !ok {
 		return api.Outcome{}, nil, api.ErrCode
 	}
-	m := machine{snapshot: stands, written: map[int]cell{}}
-	state := m.run(list)
-	settle(stands, m.written)
-	return api.Outcome{State: state, Told: m.told}, inOrder(stands), api.OK
+	snapshot.Settle(run)
+	return run.Outcome, snapshot.Pairs(), api.OK
 }
 
 // byKey answers false if a key is told twice.
-func byKey(pairs []api.Pair) (map[int]int, bool) {
-	stands := make(map[int]int, len(pairs))
+func byKey(pairs []api.Pair) (machine.Snapshot, bool) {
+	snapshot := make(machine.Snapshot, len(pairs))
 	for _, p := range pairs {
-		if _, twice := stands[p.Key]; twice {
+		if _, twice := snapshot[p.Key]; twice {
 			return nil, false
 		}
-		stands[p.Key] = p.Value
+		snapshot[p.Key] = p.Value
 	}
-	return stands, true
-}
-
-// settle lets what was written stand.
-func settle(stands map[int]int, written map[int]cell) {
-	for key, c := range written {
-		if c.stands {
-			stands[key] = c.value
-		} else {
-			delete(stands, key)
-		}
-	}
-}
-
-// inOrder tells what stands by keys, as a map has no order of its own.
-func inOrder(stands map[int]int) []api.Pair {
-	pairs := make([]api.Pair, 0, len(stands))
-	for _, key := range slices.Sorted(maps.Keys(stands)) {
-		pairs = append(pairs, api.Pair{Key: key, Value: stands[key]})
-	}
-	return pairs
+	return snapshot, true
 }

@@ -1,4 +1,4 @@
-package proc
+package machine
 
 import "heddle/api"
 
@@ -7,6 +7,12 @@ type instruction struct {
 	kind   byte
 	on     [3]byte // the registers, as they come in the code
 	number int     // the number of Const, the n of Less
+}
+
+// IsProcedure tells whether a code is a procedure.
+func IsProcedure(code string) bool {
+	_, ok := decode(code)
+	return ok
 }
 
 // decode takes a code apart; it answers false if the code is no procedure.
