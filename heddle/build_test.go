@@ -11,6 +11,8 @@ import (
 	"heddle/heddle"
 )
 
+const least, greatest = -1 << 63, 1<<63 - 1
+
 // con is a Const; op is any other instruction.
 func con(r byte, n int) string {
 	return string(binary.BigEndian.AppendUint64([]byte{api.Const, r}, uint64(n)))
@@ -127,5 +129,58 @@ func wantLog(t *testing.T, what string, e *heddle.Engine, want ...string) {
 	t.Helper()
 	if got := e.Log(); got != strings.Join(want, "") {
 		t.Fatalf("%s: Log = %x, want %x", what, got, strings.Join(want, ""))
+	}
+}
+
+func want(t *testing.T, what string, got, want api.Errno) {
+	t.Helper()
+	if got != want {
+		t.Fatalf("%s = %d, want %d", what, got, want)
+	}
+}
+
+func wantDown(t *testing.T, what string, e *heddle.Engine) {
+	t.Helper()
+	if got, err := e.Epoch(); err != api.ErrDown || len(got) > 0 {
+		t.Fatalf("%s: Epoch = %v, %d, want ErrDown", what, got, err)
+	}
+}
+
+func again(t *testing.T, e *heddle.Engine) {
+	t.Helper()
+	want(t, "Crash", e.Crash(), api.OK)
+	want(t, "Restart", e.Restart(), api.OK)
+}
+
+// torn arms an engine and lets it go down in its next epoch.
+func torn(t *testing.T, e *heddle.Engine, bytes int) {
+	t.Helper()
+	want(t, "Arm", e.Arm(bytes), api.OK)
+	wantDown(t, "its write is torn", e)
+}
+
+// view is all that can be asked of an engine, also when it is down.
+type view struct {
+	waiting []int
+	pairs   []api.Pair
+	log     string
+	results []api.Outcome
+}
+
+func viewOf(e *heddle.Engine) view {
+	v := view{waiting: e.Waiting(), pairs: e.Pairs(), log: e.Log()}
+	for id := -1; id < 30; id++ {
+		v.results = append(v.results, e.Result(id))
+	}
+	return v
+}
+
+func wantView(t *testing.T, what string, e *heddle.Engine, want view) {
+	t.Helper()
+	wantWaiting(t, what, e, want.waiting...)
+	wantPairs(t, what, e, want.pairs...)
+	wantLog(t, what, e, want.log)
+	for i, o := range want.results {
+		wantResult(t, what, e, i-1, o.State, o.Told...)
 	}
 }

@@ -30,7 +30,6 @@ func TestNewTakesBounds(t *testing.T) {
 }
 
 func TestNewRefusesBeyondBounds(t *testing.T) {
-	const least, greatest = -1 << 63, 1<<63 - 1
 	good := roomy()
 	for _, c := range []struct {
 		what   string
@@ -261,7 +260,6 @@ func TestLosersFitWhereNewcomersDoNot(t *testing.T) {
 
 func TestResults(t *testing.T) {
 	e := made(t, roomy())
-	const least, greatest = -1 << 63, 1<<63 - 1
 	submit(t, e, 1, more(1, 1), more(1, 1), get(7)+abort())
 	for id := 1; id <= 3; id++ {
 		wantResult(t, "it waits", e, id, api.Pending)
@@ -283,7 +281,6 @@ func TestResults(t *testing.T) {
 }
 
 func TestPairsAreByKeys(t *testing.T) {
-	const least, greatest = -1 << 63, 1<<63 - 1
 	e := made(t, roomy())
 	submit(t, e, 1, put(5, 1), put(greatest, 2), put(-5, 3), put(least, 4), put(0, 0))
 	wantEpoch(t, "apart", e, 1, 2, 3, 4, 5)

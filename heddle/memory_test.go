@@ -38,14 +38,18 @@ func spoil[T any](list []T, with T) {
 	}
 }
 
-// What comes out is the caller's, its spare room too.
-func TestListsAreTheCallers(t *testing.T) {
-	e := busy(t)
+func spoilAll(e *heddle.Engine) {
 	spoil(e.Waiting(), -77)
 	spoil(e.Pairs(), api.Pair{Key: -77, Value: -77})
 	for id := range 7 {
 		spoil(e.Result(id).Told, -77)
 	}
+}
+
+// What comes out is the caller's, its spare room too.
+func TestListsAreTheCallers(t *testing.T) {
+	e := busy(t)
+	spoilAll(e)
 	wantBusy(t, e)
 	list, _ := e.Epoch()
 	was := slices.Clone(list)
@@ -90,6 +94,21 @@ func TestLogThatCameOutStays(t *testing.T) {
 	}
 }
 
+// Also if the log was cut since, and written over what was cut off.
+func TestTornLogThatCameOutStays(t *testing.T) {
+	e := made(t, roomy())
+	submit(t, e, 1, put(1, 1))
+	torn(t, e, 20)
+	log := e.Log()
+	want(t, "Restart", e.Restart(), api.OK)
+	submit(t, e, 2, put(2, 2))
+	wantEpoch(t, "over it", e, 2)
+	if log != record(newcomer(1, put(1, 1)))[:20] {
+		t.Errorf("the log that came out became %x", log)
+	}
+	wantLog(t, "over it", e, record(newcomer(2, put(2, 2))))
+}
+
 // What one engine does touches no other: neither one behind the other nor at once.
 func TestEnginesAreApart(t *testing.T) {
 	one, other := busy(t), made(t, roomy())
@@ -128,6 +147,9 @@ func TestNoGoroutineIsLeft(t *testing.T) {
 	e.Pairs()
 	e.Result(1)
 	e.Log()
+	torn(t, e, 5)
+	want(t, "Restart", e.Restart(), api.OK)
+	again(t, e)
 	// One that has said it is done may take a moment to be gone.
 	for range 1000 {
 		if runtime.NumGoroutine() <= before {

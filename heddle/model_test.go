@@ -65,18 +65,39 @@ func meet(a, b map[int]bool) bool {
 	return false
 }
 
-// model is an engine in the plainest way, with neither workers nor a table.
-type model struct {
-	config  api.Config
-	codes   []string // the number of each is its place, from 1 on
+// state is all of a model that a Restart may bring back.
+type state struct {
 	taken   map[int]bool
 	waiting []int
 	stands  map[int]int
 	results map[int]api.Outcome
+	decided []int // in the order in which they count
 	log     string
 }
 
+func (s state) clone() state {
+	return state{maps.Clone(s.taken), slices.Clone(s.waiting), maps.Clone(s.stands), maps.Clone(s.results), slices.Clone(s.decided), s.log}
+}
+
+// model is an engine in the plainest way, with neither workers nor a table. It reads no log: beside how it stands it keeps how it would stand behind a Restart.
+type model struct {
+	state
+	config      api.Config
+	codes       []string // the number of each is its place, from 1 on
+	kept        state
+	down, armed bool
+	room        int
+}
+
+func newModel(c api.Config) *model {
+	empty := state{taken: map[int]bool{}, stands: map[int]int{}, results: map[int]api.Outcome{}}
+	return &model{state: empty.clone(), kept: empty, config: c}
+}
+
 func (m *model) submit(code string) (int, api.Errno) {
+	if m.down {
+		return 0, api.ErrDown
+	}
 	if len(m.waiting) == m.config.Queue {
 		return 0, api.ErrFull
 	}
@@ -85,7 +106,37 @@ func (m *model) submit(code string) (int, api.Errno) {
 	return len(m.codes), api.OK
 }
 
+func (m *model) arm(bytes int) api.Errno {
+	switch {
+	case bytes < 0:
+		return api.ErrArg
+	case m.down:
+		return api.ErrDown
+	}
+	m.armed, m.room = true, bytes
+	return api.OK
+}
+
+func (m *model) crash() api.Errno {
+	if m.down {
+		return api.ErrDown
+	}
+	m.down, m.armed = true, false
+	return api.OK
+}
+
+func (m *model) restart() api.Errno {
+	if !m.down {
+		return api.ErrDown
+	}
+	m.down, m.state = false, m.kept.clone()
+	return api.OK
+}
+
 func (m *model) epoch() ([]int, api.Errno) {
+	if m.down {
+		return nil, api.ErrDown
+	}
 	front := slices.Clone(m.waiting[:min(len(m.waiting), m.config.Batch)])
 	var fresh []string
 	for _, id := range front {
@@ -93,16 +144,36 @@ func (m *model) epoch() ([]int, api.Errno) {
 			fresh = append(fresh, newcomer(id, m.codes[id-1]))
 		}
 	}
-	if len(m.log+record(fresh...)) > m.config.Log {
+	written := record(fresh...)
+	if len(m.log+written) > m.config.Log {
 		return nil, api.ErrFull
 	}
-	m.log += record(fresh...)
+	was := m.state.clone()
+	was.log += written[:min(m.room, len(written))]
+	m.log += written
+	list, losers := m.decide(front)
+	others := m.waiting[len(front):]
+	m.waiting = losers
+	if !m.armed || m.room >= len(written) {
+		m.kept = m.state.clone()
+	}
+	if m.armed {
+		m.state = was
+		m.crash()
+		return nil, api.ErrDown
+	}
+	m.waiting = append(losers, others...)
+	return list, api.OK
+}
+
+// decide tells who is decided, in the epoch's order, and who loses.
+func (m *model) decide(front []int) (decided, losers []int) {
 	var runs []tried
 	for _, id := range front {
 		m.taken[id] = true
 		runs = append(runs, try(m.codes[id-1], m.stands))
 	}
-	var first, then, losers []int
+	var first, then []int
 	for position, id := range front {
 		run := runs[position]
 		var bothWrite, readsWritten, writesRead bool
@@ -121,10 +192,11 @@ func (m *model) epoch() ([]int, api.Errno) {
 			then = append(then, id)
 		}
 		m.results[id] = run.outcome
-		defer m.settle(run) // Only when all have run on what stood.
+		m.settle(run) // All have run already, on what stood.
 	}
-	m.waiting = append(losers, m.waiting[len(front):]...)
-	return append(first, then...), api.OK
+	list := append(first, then...)
+	m.decided = append(m.decided, list...)
+	return list, losers
 }
 
 func (m *model) settle(run tried) {
@@ -188,40 +260,99 @@ func wantSerial(t *testing.T, e *heddle.Engine, codes []string, decided []int) {
 	wantPairs(t, "one behind the other", e, stands...)
 }
 
-// The same is asked of a model and of engines that differ in their workers alone.
+// pair is the model and the engines of which the same is asked; the engines differ in their workers alone.
+type pair struct {
+	model   *model
+	engines []*heddle.Engine
+}
+
+func newPair(t *testing.T, c api.Config) pair {
+	p := pair{model: newModel(c)}
+	for _, c.Workers = range []int{1, 3, 16} {
+		p.engines = append(p.engines, made(t, c))
+	}
+	return p
+}
+
+func (p pair) submit(t *testing.T, code string) {
+	t.Helper()
+	number, err := p.model.submit(code)
+	for _, e := range p.engines {
+		if n, x := e.Submit(code); n != number || x != err {
+			t.Fatalf("Submit = %d, %d, want %d, %d", n, x, number, err)
+		}
+	}
+}
+
+func (p pair) epoch(t *testing.T) []int {
+	t.Helper()
+	list, err := p.model.epoch()
+	for _, e := range p.engines {
+		if l, x := e.Epoch(); !slices.Equal(l, list) || x != err {
+			t.Fatalf("Epoch = %v, %d, want %v, %d", l, x, list, err)
+		}
+		wantLike(t, e, p.model)
+	}
+	return list
+}
+
+// ask is for the calls that answer nothing but how they went.
+func (p pair) ask(t *testing.T, what string, want api.Errno, call func(*heddle.Engine) api.Errno) {
+	t.Helper()
+	for _, e := range p.engines {
+		if got := call(e); got != want {
+			t.Fatalf("%s = %d, want %d", what, got, want)
+		}
+		wantLike(t, e, p.model)
+	}
+}
+
 func TestAgainstModel(t *testing.T) {
 	next := numbers(4)
 	for round := range 60 {
-		c := api.Config{Batch: 1 + next(20), Queue: 1 + next(40), Log: 64 + next(6000)}
-		m := &model{config: c, taken: map[int]bool{}, stands: map[int]int{}, results: map[int]api.Outcome{}}
-		var engines []*heddle.Engine
-		for _, c.Workers = range []int{1, 3, 16} {
-			engines = append(engines, made(t, c))
-		}
-		var decided []int
+		p := newPair(t, api.Config{Batch: 1 + next(20), Queue: 1 + next(40), Log: 64 + next(6000)})
 		for range 80 {
 			if next(4) > 0 {
-				code := anyCode(next, []int{2, 6, 30}[round%3])
-				number, err := m.submit(code)
-				for _, e := range engines {
-					if n, x := e.Submit(code); n != number || x != err {
-						t.Fatalf("Submit = %d, %d, want %d, %d", n, x, number, err)
-					}
-				}
-				continue
-			}
-			list, err := m.epoch()
-			decided = append(decided, list...)
-			for _, e := range engines {
-				if l, x := e.Epoch(); !slices.Equal(l, list) || x != err {
-					t.Fatalf("Epoch = %v, %d, want %v, %d", l, x, list, err)
-				}
-				wantLike(t, e, m)
+				p.submit(t, anyCode(next, []int{2, 6, 30}[round%3]))
+			} else {
+				p.epoch(t)
 			}
 		}
-		for _, e := range engines {
-			wantLike(t, e, m)
-			wantSerial(t, e, m.codes, decided)
+		for _, e := range p.engines {
+			wantLike(t, e, p.model)
+			wantSerial(t, e, p.model.codes, p.model.decided)
+		}
+	}
+}
+
+// The same with engines that go down in all ways and come up again: P10, P11.
+func TestGoingDownAgainstModel(t *testing.T) {
+	next := numbers(6)
+	for round := range 60 {
+		p := newPair(t, api.Config{Batch: 1 + next(10), Queue: 1 + next(20), Log: 64 + next(8000)})
+		outcomes := map[int]api.Outcome{} // of all that an Epoch ever told
+		for range 150 {
+			switch kind := next(20); {
+			case kind < 9:
+				p.submit(t, anyCode(next, []int{2, 6, 30}[round%3]))
+			case kind < 14:
+				for _, id := range p.epoch(t) {
+					outcomes[id] = p.engines[0].Result(id)
+				}
+			case kind < 16:
+				bytes := next(400) - 20
+				p.ask(t, "Arm", p.model.arm(bytes), func(e *heddle.Engine) api.Errno { return e.Arm(bytes) })
+			case kind < 17:
+				p.ask(t, "Crash", p.model.crash(), (*heddle.Engine).Crash)
+			default:
+				p.ask(t, "Restart", p.model.restart(), (*heddle.Engine).Restart)
+			}
+		}
+		for _, e := range p.engines {
+			wantSerial(t, e, p.model.codes, p.model.decided)
+			for id, was := range outcomes {
+				wantResult(t, "what was decided stays decided", e, id, was.State, was.Told...)
+			}
 		}
 	}
 }

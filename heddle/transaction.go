@@ -39,6 +39,15 @@ func newcomers(list []transaction) []journal.Newcomer {
 	return told
 }
 
+// transactions is what newcomers were when they came to wait.
+func transactions(list []journal.Newcomer) []transaction {
+	told := make([]transaction, len(list))
+	for i, n := range list {
+		told[i] = transaction{number: n.Number, code: n.Code}
+	}
+	return told
+}
+
 // front is what the next epoch takes.
 func (e *Engine) front() []transaction {
 	return e.waiting[:min(e.config.Batch, len(e.waiting))]

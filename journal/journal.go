@@ -1,4 +1,4 @@
-// Package journal: the bytes of the log.
+// Package journal: the bytes of the log, as they are written and as they are read again.
 package journal
 
 // Newcomer is a transaction that no earlier epoch took.

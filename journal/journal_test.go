@@ -4,6 +4,7 @@ import (
 	"bytes"
 	"encoding/binary"
 	"hash/fnv"
+	"slices"
 	"strings"
 	"testing"
 
@@ -59,4 +60,88 @@ func TestLengthOfManyLongOnes(t *testing.T) {
 	if want := 8 + 64*(6+2560); len(got) != want || int(binary.BigEndian.Uint32(got)) != want {
 		t.Errorf("%d bytes, told as %x, want %d", len(got), got[:4], want)
 	}
+}
+
+// lists are newcomers of some records.
+func lists() [][]journal.Newcomer {
+	return [][]journal.Newcomer{
+		nil,
+		{{Number: 1}},
+		{{Number: 2, Code: "\x0a\x00"}},
+		{{Number: 9, Code: "\x0b"}, {Number: 3}, {Number: 0xfffefdfc, Code: strings.Repeat("\x0b", 256)}},
+	}
+}
+
+// What was written is read again, and what is behind it is left.
+func TestCutOfWhatWasWritten(t *testing.T) {
+	for _, behind := range []string{"", "\x00", "\x00\x00\x00\x08", strings.Repeat("\xff", 300), string(journal.Record(nil))} {
+		for _, list := range lists() {
+			log := append(journal.Record(list), behind...)
+			was := bytes.Clone(log)
+			newcomers, rest, ok := journal.Cut(log)
+			if !ok || !slices.Equal(newcomers, list) || string(rest) != behind {
+				t.Errorf("%v ahead of %x: %v, %x, %v", list, behind, newcomers, rest, ok)
+			}
+			clear(log[:len(log)-len(behind)])
+			if !slices.Equal(newcomers, list) || !bytes.Equal(log[len(log)-len(behind):], was[len(was)-len(behind):]) {
+				t.Errorf("%v: the log was kept or written into", list)
+			}
+		}
+	}
+}
+
+func wantNoRecord(t *testing.T, what string, log []byte) {
+	t.Helper()
+	if newcomers, behind, ok := journal.Cut(log); ok || len(newcomers) > 0 || len(behind) > 0 {
+		t.Errorf("%s: %x is no whole record, but %v, %x, %v", what, log, newcomers, behind, ok)
+	}
+}
+
+// A record that ends within its length, within a newcomer or within its sum is not whole; nor is one with a byte that is not right.
+func TestCutOfWhatIsNotWhole(t *testing.T) {
+	for _, list := range lists() {
+		record := journal.Record(list)
+		for i := range record {
+			wantNoRecord(t, "torn", record[:i])
+			wrong := bytes.Clone(record)
+			wrong[i] ^= 0x10
+			wantNoRecord(t, "a wrong byte", wrong)
+			wantNoRecord(t, "a wrong byte ahead of more", append(wrong, make([]byte, 100)...))
+		}
+	}
+}
+
+// A length that cannot be, under a sum that is right.
+func TestCutOfWrongLengths(t *testing.T) {
+	for _, c := range []struct{ what, text string }{
+		{"a length of nothing", "\x00\x00\x00\x00"},
+		{"a length of less than the sum's", "\x00\x00\x00\x07"},
+		{"a length that is greater than the log", "\x00\x00\x00\x09"},
+		{"the greatest length", "\xff\xff\xff\xff"},
+		{"half a number", "\x00\x00\x00\x0a" + "\x00\x00"},
+		{"no length of the code", "\x00\x00\x00\x0d" + "\x00\x00\x00\x01\x00"},
+		{"a code that is longer than the record", "\x00\x00\x00\x10" + "\x00\x00\x00\x01\x00\x03\x0a\x00"},
+		{"a byte behind the newcomers", "\x00\x00\x00\x10" + "\x00\x00\x00\x01\x00\x01\x0b\x00"},
+	} {
+		wantNoRecord(t, c.what, summed(c.text))
+		wantNoRecord(t, c.what+", ahead of nothing else", []byte(c.text))
+	}
+	wantNoRecord(t, "an empty log", nil)
+}
+
+// Record behind record is cut off, until one is torn.
+func TestCutOfManyRecords(t *testing.T) {
+	var log []byte
+	for _, list := range lists() {
+		log = append(log, journal.Record(list)...)
+	}
+	log = append(log, journal.Record(nil)[:7]...)
+	for _, list := range lists() {
+		newcomers, behind, ok := journal.Cut(log)
+		if !ok || !slices.Equal(newcomers, list) {
+			t.Fatalf("%v, %v, want %v", newcomers, ok, list)
+		}
+		log = behind
+	}
+	wantNoRecord(t, "the last one", log)
 }
